@@ -109,7 +109,8 @@ class Names(LeafCase):
         words = [word + digit for word in WORDS for digit in ("", "1", "5")]
         things = (
             *words, "", "1", "5", "a0", "a6", "a9", "a11", "1a", "a1b", "a12", "abcdefghi", "abcdefghi1",
-            "A", "aB", "Own", "own ", " own", "o wn", "own\n", "a1\n", "own-", "own_", "a.", "(", ")", "\u00e9", "\uff41",
+            "A", "aB", "Own", "own ", " own", "o wn", "own\n", "a1\n", "own-", "own_", "a.",
+            "(", ")", "\u00e9", "\uff41",
             "a\u0661", "a\u00b2", "a" * 20000, b"own", ["own"], ("own",), ("o", "w"), ["a"],
         )
         for thing in (*things, *ODD_THINGS, deep(130)):
