@@ -1,4 +1,7 @@
-"""Persons and records: what a walk through a form asks, and which checks fail."""
+"""Persons and records: what a walk through a form asks, and which checks fail.
+
+The function check_person is for the other files.
+"""
 
 from slipleaf.conditions import truth
 from slipleaf.errors import BadPerson, BadRecord
@@ -7,15 +10,20 @@ from slipleaf.kinds import answers_of, is_answer
 
 def record_of(form, person):
     """Return the record of a person."""
+    check_person(form, person)
+    values = {}
+    for (name, _, need), answer in zip(form.questions, person):
+        values[name] = answer if truth(need, values) else None
+    return tuple(values.values())
+
+
+def check_person(form, person):
+    """Raise BadPerson if this is no person of the form."""
     if not isinstance(person, tuple) or len(person) != len(form):
         raise BadPerson(-1)
     for place, question in enumerate(form.questions):
         if not is_answer(question[1], person[place]):
             raise BadPerson(place)
-    values = {}
-    for (name, _, need), answer in zip(form.questions, person):
-        values[name] = answer if truth(need, values) else None
-    return tuple(values.values())
 
 
 def is_record(form, thing):

@@ -1,6 +1,6 @@
 """Items of forms: whether they are built right, and how they unroll to questions and checks.
 
-The functions check_uses, need_within and check_within are for the other files.
+The functions check_built, check_uses, need_within and check_within are for the other files.
 """
 
 from slipleaf.conditions import ALWAYS, exchanged, is_condition, is_full_name, is_name
@@ -13,12 +13,17 @@ MOST_MEMBERS = 5
 
 def unrolled(items):
     """Return the pair of the questions and the checks to which items unroll."""
-    for number, item in enumerate(items):
-        if not _is_item(item, 0, False):
-            raise BadItem(number)
+    check_built(items)
     unrolling = Unrolling()
     unrolling.take(items, ())
     return tuple(unrolling.questions), tuple(unrolling.checks)
+
+
+def check_built(items):
+    """Raise BadItem for the first item that is not built right."""
+    for number, item in enumerate(items):
+        if not _is_item(item, 0, False):
+            raise BadItem(number)
 
 
 def _is_item(thing, depth, rounded):

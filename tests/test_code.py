@@ -14,6 +14,13 @@ INTERFACE = {
     "rounds": ("unrolled",),
     "forms": ("Form",),
     "records": ("record_of", "is_record", "asked_in", "failing_checks", "is_lawful", "person_of"),
+    "writing": ("write_condition", "write_items", "write_form"),
+    "reading": ("read_condition", "read_items", "read_form"),
+    "walks": ("Walk",),
+    "groups": ("Group",),
+    "compare": ("same_questions", "parting"),
+    "reports": ("never_asked", "always_asked", "first_asked", "needless_checks", "shown_by"),
+    "booklets": ("Booklet",),
 }
 
 
