@@ -21,7 +21,7 @@ class Group:
         # The numbered layers of slipleaf/nodes.py: what the table tells, in a shorter way.
         self.nodes = nodes
         self.table = table_of(form.questions, nodes)
-        # What _counted returns, once it was asked for.
+        # What the property counts tells, once it was asked for.
         self._counts = None
 
     @staticmethod
@@ -53,6 +53,13 @@ class Group:
     def size(self):
         """The number of all rests of all places."""
         return sum([len(rests) for rests in self.table])
+
+    @property
+    def counts(self):
+        """For each rest of each place, how many records go on so."""
+        if self._counts is None:
+            self._counts = _counts_of(self.table)
+        return self._counts
 
     def __and__(self, other):
         return _group_joined(self, other, "and")
@@ -87,7 +94,7 @@ class Group:
 
     def many(self):
         """Return how many records there are."""
-        return sum(self._counted()[0])
+        return sum(self.counts[0])
 
     def first(self):
         """Return the first record, or None."""
@@ -101,7 +108,7 @@ class Group:
             raise BadNumber(number)
         values = []
         at, left = 0, number
-        for rests, behind in zip(self.table, self._counted()[1:]):
+        for rests, behind in zip(self.table, self.counts[1:]):
             # There are more records behind all these moves than are left, so one of them is it.
             for value, lead in rests[at]:
                 if left < behind[lead]:
@@ -116,7 +123,7 @@ class Group:
         if record not in self:
             raise BadRecord(0)
         at, number = 0, 0
-        for value, rests, behind in zip(record, self.table, self._counted()[1:]):
+        for value, rests, behind in zip(record, self.table, self.counts[1:]):
             for other, lead in rests[at]:
                 if other == value:
                     break
@@ -165,12 +172,6 @@ class Group:
         self.form.check_place(place)
         return len(self.table[place])
 
-    def _counted(self):
-        """Return, for each rest of each place, how many records go on so."""
-        if self._counts is None:
-            self._counts = _counts_of(self.table)
-        return self._counts
-
 
 def check_behind(form, condition):
     """Raise the first error of a condition for which a group is made, up to TooMany("standing")."""
@@ -188,11 +189,11 @@ def _is_value(thing):
 
 def _counts_of(table):
     """Return, for each rest of each place of a table, how many records go on so."""
-    counts = [[1] * len(table[-1])]
+    counts = [(1,) * len(table[-1])]
     for rests in table[-2::-1]:
         behind = counts[-1]
-        counts.append([sum([behind[lead] for _, lead in moves]) for moves in rests])
-    return counts[::-1]
+        counts.append(tuple([sum([behind[lead] for _, lead in moves]) for moves in rests]))
+    return tuple(counts[::-1])
 
 
 def _demand_alike(group, other):
