@@ -10,6 +10,7 @@ are live there; there are never more states than the weight of the place. A flow
 At the end there is the one way END. State 0 of place 0 is where all walks begin.
 """
 
+from slipleaf.conditions import ALWAYS
 from slipleaf.forms import last_uses
 from slipleaf.kinds import answers_of
 
@@ -18,6 +19,23 @@ END = (False, ())
 
 def flow_of(questions, checks):
     """Return the flow of these questions, with these checks."""
+    flow, _, _ = _flow_and_end(questions, checks)
+    return flow
+
+
+def flow_to(questions, names):
+    """Return the flow of questions at whose end the values of these names tell states apart.
+
+    Also, for each of the names, its values in the states of the end. In each place the states are
+    in the order of the first records that come to them.
+    """
+    condition = ("and", ALWAYS) + tuple([("asked", name) for name in names])
+    flow, kept, rows = _flow_and_end(questions, (("", len(questions), condition),))
+    return flow, _columns_of(kept, rows)
+
+
+def _flow_and_end(questions, checks):
+    """Return a flow, and for the states of its end the names that are live there and the rows of their values."""
     last = last_uses(questions, checks)
     names, rows = [], [()]
     flow = []
@@ -31,7 +49,7 @@ def flow_of(questions, checks):
         flow.append((failed, marks, ways))
     failed = _failed_at(len(questions), checks, _columns_of(names, rows), len(rows))
     flow.append((failed, [0] * len(rows), [END]))
-    return flow
+    return flow, names, rows
 
 
 def unchecked(flow):

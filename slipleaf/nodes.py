@@ -236,3 +236,19 @@ def first_record(questions, layers, first):
         value, number = _moves_of(layer[number], answers_of(question[1]))[0]
         values.append(value)
     return tuple(values)
+
+
+def first_records(questions, layers, first, most):
+    """Return the first records behind a first node, so many of them if there are more."""
+    found = []
+    ahead = [] if first == NOWHERE else [((), first)]
+    while ahead and len(found) < most:
+        values, number = ahead.pop()
+        place = len(values)
+        if place == len(questions):
+            found.append(values)
+        else:
+            # The last one of these is the next one that is looked at.
+            moves = _moves_of(layers[place][number], answers_of(questions[place][1]))
+            ahead.extend([(values + (value,), lead) for value, lead in moves[::-1]])
+    return found

@@ -21,6 +21,20 @@ INTERFACE = {
     "compare": ("same_questions", "parting"),
     "reports": ("never_asked", "always_asked", "first_asked", "needless_checks", "shown_by"),
     "booklets": ("Booklet",),
+    "judging": ("fault",),
+    "arrows": ("least_booklet", "row_count", "due_rows"),
+    "orders": ("needed_ahead", "ordered", "orders", "best_order"),
+    "numerals": ("Numerals",),
+    "classes": ("Classes",),
+    "tongues": ("Tongue",),
+    "lines": ("broken",),
+    "printing": ("answers_listed", "row_lines"),
+    "pressing": ("Press",),
+    "readback": ("read_back",),
+    "issues": ("Issue",),
+    "slips": ("empty_pages", "filled_gaps", "slips_on"),
+    "readings": ("Reading",),
+    "bearing": ("rivalry", "unseen"),
 }
 
 
