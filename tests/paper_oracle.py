@@ -170,6 +170,29 @@ def rivalry_by_words(issue):
     return min(found, key=lambda told: told[0])
 
 
+def rivalry_of_two(issue):
+    """Return the rivalry of an issue with two lawful records; it stops looking at a sheet that is too bad."""
+    pages, told = pages_of(issue), []
+    for record in lawful_records(issue.form):
+        due = due_by_words(issue.booklet, record)
+        answers = [(row, record[issue.form.place_of(issue.booklet.rows[row - 1][1])]) for row in due]
+        told.append((answers, [range(row + 1, onward) for row, onward in zip(due, due[1:] + [issue.booklet.end])]))
+    found = None
+    for sheet in all_sheets(issue):
+        empty = {row: page for page, rows in pages.items() for row in rows if all(sheet[at - 1] == -1 for at in rows)}
+        most = 0
+        for answers, gaps in told:
+            slips = len({empty[row] for row, _ in answers if row in empty})
+            slips += sum(sheet[row - 1] != answer for row, answer in answers if row not in empty)
+            slips += sum(any(sheet[row - 1] != -1 for row in gap) for gap in gaps)
+            most = max(most, slips)
+            if found is not None and most >= found[0]:
+                break
+        else:
+            found = (most, sheet)
+    return (found[0],) + tuple(lawful_records(issue.form)) + (found[1],)
+
+
 def unseen_by_words(issue):
     """Return the unseen slips of an issue, as the words of [42] tell them."""
     records = lawful_records(issue.form)
