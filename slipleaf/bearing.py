@@ -1,4 +1,7 @@
-"""Bearing: how many slips an issue bears until readings are no longer sure, or are wrong unseen."""
+"""Bearing: how many slips an issue bears until readings are no longer sure, or are wrong unseen.
+
+The function lawful_records is for the other files.
+"""
 
 from slipleaf.arrows import due_rows
 from slipleaf.errors import TooMany
@@ -12,7 +15,7 @@ MOST_RECORDS = 60
 
 def rivalry(issue):
     """Return the least slips by which two lawful records are rivals, the first such two, and their first sheet."""
-    records = _lawful_records(issue.form)
+    records = lawful_records(issue.form)
     if len(records) < 2:
         return None
     duels = Duels(issue)
@@ -25,13 +28,13 @@ def rivalry(issue):
 
 def unseen(issue):
     """Return the least slips that a lawful record has on the right sheet of another one, and the first such two."""
-    records = _lawful_records(issue.form)
+    records = lawful_records(issue.form)
     if len(records) < 2:
         return None
     return _least_unseen(issue, records)
 
 
-def _lawful_records(form):
+def lawful_records(form):
     """Return the list of all lawful records, in order."""
     layers, firsts = merged([flow_of(form.questions, form.checks)])
     records = first_records(form.questions, layers, firsts[0], MOST_RECORDS + 1)

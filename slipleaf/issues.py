@@ -4,8 +4,10 @@ from slipleaf.arrows import due_rows, least_booklet
 from slipleaf.booklets import MOST_ROWS
 from slipleaf.bounds import is_within
 from slipleaf.errors import BadNumber, BadPages, BadRow, BadSheet, Misled
+from slipleaf.flows import flow_of
 from slipleaf.judging import fault
 from slipleaf.kinds import EMPTY, is_content
+from slipleaf.nodes import merged
 
 
 class Issue:
@@ -27,6 +29,8 @@ class Issue:
         self.form = booklet.form
         self.booklet = booklet
         self.pages = tuple(pages)
+        # What the property lawful_layers tells, once it was asked for.
+        self._lawful_kept = None
 
     @staticmethod
     def made(form, rows=1):
@@ -40,6 +44,13 @@ class Issue:
     def page_count(self):
         """How many pages there are."""
         return self.pages[-1] if self.pages else 0
+
+    @property
+    def lawful_layers(self):
+        """The layers of the nodes of the lawful records (slipleaf/nodes.py), and the first node."""
+        if self._lawful_kept is None:
+            self._lawful_kept = _lawful_layers_of(self.form)
+        return self._lawful_kept
 
     def rows_on(self, page):
         """Return the numbers of the rows on a page."""
@@ -68,3 +79,9 @@ class Issue:
 
     def __eq__(self, other):
         return isinstance(other, Issue) and self.booklet == other.booklet and self.pages == other.pages
+
+
+def _lawful_layers_of(form):
+    """Return the layers and the first node of the lawful records of a form."""
+    layers, firsts = merged([flow_of(form.questions, form.checks)])
+    return layers, firsts[0]

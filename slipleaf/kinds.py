@@ -1,4 +1,7 @@
-"""Kinds of questions: their answers, the contents of paper, and the slips between them."""
+"""Kinds of questions: their answers, the contents of paper, and the slips between them.
+
+The function all_slips is for the other files.
+"""
 
 from slipleaf.bounds import is_within
 from slipleaf.errors import BadAnswer, BadContent, BadKind
@@ -71,6 +74,17 @@ def slips_between(kind, answer, content):
     if kind[0] == "pick" or content < 0:
         return int(answer != content)
     return int(answer // 10 != content // 10) + int(answer % 10 != content % 10)
+
+
+def all_slips(kind, content):
+    """Return, for each answer of what is known to be a kind, the slips to what is known to be its content."""
+    answers = answers_of(kind)
+    if kind[0] == "tick":
+        return tuple([slips_between(kind, answer, content) for answer in answers])
+    if kind[0] == "pick" or content < 0:
+        return tuple([int(answer != content) for answer in answers])
+    ten, one = content // 10, content % 10
+    return tuple([int(answer // 10 != ten) + int(answer % 10 != one) for answer in answers])
 
 
 def ticked(kind, content):

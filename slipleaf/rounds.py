@@ -14,9 +14,70 @@ MOST_MEMBERS = 5
 def unrolled(items):
     """Return the pair of the questions and the checks to which items unroll."""
     check_built(items)
-    unrolling = Unrolling()
-    unrolling.take(items, ())
-    return tuple(unrolling.questions), tuple(unrolling.checks)
+    questions = []
+    checks = []
+    kinds = {}
+    checked = {}
+    # What is still to be gone through, the next one last: items with the conditions around them.
+    left = [(item, ()) for item in items[::-1]]
+    while left:
+        item, around = left.pop()
+        word = item[0]
+        if word == "part":
+            check_uses(item[1], kinds)
+            left.extend([(inner, _deeper(around, item[1])) for inner in item[2][::-1]])
+        elif word == "each":
+            left.extend(_members_of(item, around, kinds)[::-1])
+        elif word == "check":
+            checks.append(_check_told(item, around, kinds, checked, len(questions)))
+            checked[item[1]] = True
+        else:
+            name, kind, need = _question_told(item, around, kinds, checked)
+            questions.append((name, kind, need))
+            kinds[name] = kind
+            if word == "twice":
+                checks.append((name, len(questions), _fitting(name, check_within(around, ("same", item[1], name)))))
+                checked[name] = True
+    return tuple(questions), tuple(checks)
+
+
+def _question_told(item, around, kinds, checked):
+    """Return the question of an item that asks, or asks again, with the conditions around it."""
+    if item[0] == "ask":
+        _, name, kind, condition = item
+        if name in kinds:
+            raise Twice(name)
+        check_uses(condition, kinds)
+        return (name, kind, _fitting(name, need_within(around, condition)))
+    _, asked, name = item
+    kind = _kind_in(kinds, asked)
+    if name in kinds or name in checked:
+        raise Twice(name)
+    return (name, kind, _fitting(name, need_within(around, ("asked", asked))))
+
+
+def _check_told(item, around, kinds, checked, place):
+    """Return the check of an item, with the conditions around it."""
+    _, name, condition = item
+    if name in checked:
+        raise Twice(name)
+    check_uses(condition, kinds)
+    return (name, place, _fitting(name, check_within(around, condition)))
+
+
+def _members_of(item, around, kinds):
+    """Return the items of a round, once for each member there can be, with the conditions around them."""
+    _, name, items = item
+    kind = _kind_in(kinds, name)
+    if kind[0] != "count" or kind[2] > MOST_MEMBERS:
+        raise BadUse(name)
+    told = []
+    for member in range(1, kind[2] + 1):
+        digit = str(member)
+        names = {inner: inner + digit for inner in _questions_of(items)}
+        deeper = around + (("from", name, member, kind[2]),)
+        told.extend([(inner, deeper) for inner in _numbered(items, names, digit)])
+    return told
 
 
 def check_built(items):
@@ -125,83 +186,11 @@ def _deeper(around, condition):
     return around if condition == ALWAYS else around + (condition,)
 
 
-class Unrolling:
-    """The questions and checks of the items that were gone through so far."""
-
-    def __init__(self):
-        self.questions = []
-        self.checks = []
-        self.kinds = {}
-        self.checked = {}
-
-    def take(self, items, around):
-        """Go through items that stand within the conditions around."""
-        for item in items:
-            if item[0] == "ask":
-                self.take_ask(item, around)
-            elif item[0] == "check":
-                self.take_check(item, around)
-            elif item[0] == "part":
-                check_uses(item[1], self.kinds)
-                self.take(item[2], _deeper(around, item[1]))
-            elif item[0] == "each":
-                self.take_each(item, around)
-            else:
-                self.take_twice(item, around)
-
-    def take_ask(self, item, around):
-        """Go through a question."""
-        _, name, kind, condition = item
-        if name in self.kinds:
-            raise Twice(name)
-        check_uses(condition, self.kinds)
-        self.put_question(name, kind, need_within(around, condition))
-
-    def take_check(self, item, around):
-        """Go through a check."""
-        _, name, condition = item
-        if name in self.checked:
-            raise Twice(name)
-        check_uses(condition, self.kinds)
-        self.put_check(name, check_within(around, condition))
-
-    def take_each(self, item, around):
-        """Go through a round, once for each member there can be."""
-        _, name, items = item
-        kind = _kind_in(self.kinds, name)
-        if kind[0] != "count" or kind[2] > MOST_MEMBERS:
-            raise BadUse(name)
-        for member in range(1, kind[2] + 1):
-            digit = str(member)
-            names = {inner: inner + digit for inner in _questions_of(items)}
-            self.take(_numbered(items, names, digit), around + (("from", name, member, kind[2]),))
-
-    def take_twice(self, item, around):
-        """Go through a question that is asked again, and the check that it brings."""
-        _, asked, name = item
-        kind = _kind_in(self.kinds, asked)
-        if name in self.kinds or name in self.checked:
-            raise Twice(name)
-        self.put_question(name, kind, need_within(around, ("asked", asked)))
-        self.put_check(name, check_within(around, ("same", asked, name)))
-
-    def put_question(self, name, kind, need):
-        """Put a question at the end."""
-        _check_length(name, need)
-        self.questions.append((name, kind, need))
-        self.kinds[name] = kind
-
-    def put_check(self, name, condition):
-        """Put a check at the end."""
-        _check_length(name, condition)
-        self.checks.append((name, len(self.questions), condition))
-        self.checked[name] = True
-
-
-def _check_length(name, condition):
-    """Raise that what was joined is too long; in all else it is known to be a condition."""
+def _fitting(name, condition):
+    """Return what was joined, unless it is too long; in all else it is known to be a condition."""
     if not is_condition(condition):
         raise TooLong(name)
+    return condition
 
 
 def _questions_of(items):

@@ -28,17 +28,17 @@ class SlipCounter:
     """Counts slips on what is known to be a sheet; due: the due rows of what is known to be a record."""
 
     def __init__(self, issue, sheet):
+        filled = [content is not None and content != EMPTY for content in sheet]
+        ahead = [0]
+        for fine in filled:
+            ahead.append(ahead[-1] + int(fine))
+        kept = {page: True for content, page, fine in zip(sheet, issue.pages, filled) if content is None or fine}
         self.issue = issue
         self.sheet = sheet
         # The keys are the empty pages, ascending.
-        self.empty = {page: True for page in range(1, issue.page_count + 1)}
+        self.empty = {page: True for page in range(1, issue.page_count + 1) if page not in kept}
         # For each number up to that of the last row, how many rows up to this one are filled.
-        self.ahead = [0]
-        for content, page in zip(sheet, issue.pages):
-            filled = content is not None and content != EMPTY
-            self.ahead.append(self.ahead[-1] + int(filled))
-            if content is None or filled:
-                self.empty.pop(page, None)
+        self.ahead = ahead
 
     def is_overlooked(self, row, onward):
         """Tell whether a row is filled between these two numbers."""

@@ -35,6 +35,13 @@ INTERFACE = {
     "slips": ("empty_pages", "filled_gaps", "slips_on"),
     "readings": ("Reading",),
     "bearing": ("rivalry", "unseen"),
+    "repeats": ("repeated", "fewest_repeats"),
+    "papers": ("Paper", "Sheet", "Letter", "Note"),
+    "cases": ("Case",),
+    "lots": ("fewest_lot", "ask_again"),
+    "trees": ("Tree",),
+    "steps": ("stepped", "linked"),
+    "editions": ("Edition",),
 }
 
 
