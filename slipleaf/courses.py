@@ -10,10 +10,11 @@ and the row that asks next. Its sums are a pair: the lowest sum of the prices fr
 end, and the sum of 2 ** s over all sums that are s above it, as far as they can matter.
 """
 
-from slipleaf.errors import NoRecord, TooMany
+from slipleaf.errors import NoRecord
 from slipleaf.groups import Group
 from slipleaf.kinds import answers_of
-from slipleaf.nodes import MOST_RESTS, NOWHERE, evened, numbered, packed
+from slipleaf.nodes import NOWHERE, evened, numbered
+from slipleaf.weaves import Weave
 
 MOST_EXTRA = 1000
 
@@ -58,7 +59,8 @@ class Courses:
 
     def within(self, extra):
         """Return the group of the records with at most so many slips more than the fewest."""
-        layers, first = CourseGroup(self).joined(self.sums[0][self.start][0] + extra)
+        weave = CourseGroup(self)
+        layers, first = weave.layers_from(weave.key_at(0, self.start, self.sums[0][self.start][0] + extra))
         return Group(self.form, numbered(layers, first))
 
     def first_within(self, extra, most):
@@ -131,43 +133,18 @@ class Courses:
         return sums[::-1]
 
 
-class CourseGroup:
-    """Joins the rests of the group of the records with at most so many slips.
+class CourseGroup(Weave):
+    """Makes the group of the records with at most so many slips.
 
     A key of a place is a triple of a spot's node and row and the slips that may still come, which is
     such a sum of the spot: so different numbers of slips make different rests of one spot.
     """
 
     def __init__(self, courses):
+        super().__init__(len(courses.layers))
         self.courses = courses
-        self.known = [{} for _ in courses.layers]
-        self.numbers = [{} for _ in courses.layers]
-        # What _keys_behind tells of the keys that are to be made.
-        self.behind = {}
-        self.nodes_made = 0
 
-    def joined(self, most):
-        """Return the layers of the group and its first node."""
-        first = self._key_at(0, self.courses.start, most)
-        if first == ():
-            return [[] for _ in self.numbers], NOWHERE
-        stack = [(0, first)]
-        while stack:
-            place, key = stack[-1]
-            if key in self.known[place]:
-                stack.pop()
-                continue
-            if (place, key) not in self.behind:
-                self.behind[(place, key)] = self._keys_behind(place, key)
-            _, keys = self.behind[(place, key)]
-            missing = [(place + 1, onward) for onward in keys if onward and onward not in self.known[place + 1]]
-            if missing:
-                stack.extend(missing)
-            else:
-                self._make(place, key)
-        return [list(row) for row in self.numbers], self.known[0][first]
-
-    def _key_at(self, place, spot, left):
+    def key_at(self, place, spot, left):
         """Return the key of a spot when at most so many slips may come; an empty tuple if that is too few."""
         if spot not in self.courses.sums[place]:
             return ()
@@ -177,7 +154,7 @@ class CourseGroup:
         fitting = bits & ((1 << (left - low + 1)) - 1)
         return (spot[0], spot[1], low + fitting.bit_length() - 1)
 
-    def _keys_behind(self, place, key):
+    def keys_behind(self, place, key):
         """Return whether a question is asked, and the key of the next place for each of its answers."""
         if place == len(self.courses.form):
             return False, []
@@ -185,20 +162,8 @@ class CourseGroup:
         told = {}
         for spot, price in ways:
             if (spot, price) not in told:
-                told[(spot, price)] = self._key_at(place + 1, spot, key[2] - price)
+                told[(spot, price)] = self.key_at(place + 1, spot, key[2] - price)
         return asked, [told[way] for way in ways]
-
-    def _make(self, place, key):
-        """Make the node of a key; those behind it are there."""
-        asked, keys = self.behind.pop((place, key))
-        node = packed(asked, tuple([self.known[place + 1][onward] if onward else NOWHERE for onward in keys]))
-        if node not in self.numbers[place]:
-            self.numbers[place][node] = len(self.numbers[place])
-            # Each key is reached by walks within the slips, so each node is a rest of the group.
-            self.nodes_made += 1
-            if self.nodes_made > MOST_RESTS:
-                raise TooMany("rest")
-        self.known[place][key] = self.numbers[place][node]
 
 
 def _joined_sums(found):

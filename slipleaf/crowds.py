@@ -37,7 +37,8 @@ class Crowd:
         """Return the crowd in which the question at a place is left out."""
         ahead, layer, behind = self.layers[:place], self.layers[place], self.layers[place + 1:]
         if not behind:
-            return Crowd(ahead, [self.base + min([toll for _, toll, _ in node]) for node in layer])
+            # At each node of the last layer there is an answer for which nothing is paid.
+            return Crowd(ahead, [self.base] * len(layer))
         passed = [
             [(lead, toll + more, answers) for at, toll, _ in node for lead, more, answers in behind[0][at]]
             for node in layer

@@ -337,10 +337,10 @@ def by_uncheck(work, form, name):
     work.checks = [check for check in work.checks if check[0] != name]
 
 
-def linked_by_words(form, step, person):
+def linked_by_words(form, step, person, new=None):
     """Return the list of all persons who are linked to a person by a step that can be taken, ascending."""
     told, word = dict(zip(form.names, person)), step[0]
-    new = step_by_words(form, step)
+    new = new or step_by_words(form, step)
     choices = []
     for name, kind, _ in new.questions:
         old = {step[2]: step[1]}.get(name, name) if word == "rename" else name

@@ -42,6 +42,13 @@ INTERFACE = {
     "trees": ("Tree",),
     "steps": ("stepped", "linked"),
     "editions": ("Edition",),
+    "carrying": ("carried", "fewest_forgotten"),
+    "followups": ("FollowUp",),
+    "entries": ("is_entry", "entry_line", "read_line"),
+    "books": ("Book",),
+    "journals": ("journal", "taken_up"),
+    "totals": ("counting", "open_group", "bounds", "points"),
+    "asks": ("Ask",),
 }
 
 
