@@ -63,8 +63,9 @@ class Outlook:
         several = [self.issue.lawful_layers[0][place][spot[0]][1], arrows]
         several.extend([_leads_of(nodes[place], node) for nodes, node in zip(self.groups, spot[2:])])
         size = max([len(leads) for leads in several])
+        evened = [leads * (size // len(leads)) for leads in several]
         picks = {}
-        for number, further in enumerate(zip(*[leads * (size // len(leads)) for leads in several])):
+        for number, further in enumerate(list(zip(*evened))):
             if further[0] != NOWHERE:
                 picks.setdefault(further, []).append(number)
         return {further: (spot[1], tuple(numbers) if size > 1 else ()) for further, numbers in picks.items()}
