@@ -1,6 +1,6 @@
 """Carrying: records of an old form turned to lawful records of a new one."""
 
-from slipleaf.crowds import crowd_behind, crowd_of, leads_from
+from slipleaf.crowds import crowd_behind, crowd_of
 from slipleaf.errors import BadRecord, NoRecord, TooMany
 from slipleaf.flows import flow_of
 from slipleaf.groups import Group
@@ -81,8 +81,8 @@ def _lawful_layers(form):
 class CarriedGroup(Weave):
     """Makes the group of the lawful records of the persons of a crowd.
 
-    A key is a pair of a node of the lawful records and the tuple of the nodes of the crowd at which
-    those of its persons are who have the values so far.
+    A key is a pair of a node of the lawful records and the spread of those persons of the crowd who
+    have the values so far (slipleaf/crowds.py).
     """
 
     def __init__(self, form, crowd):
@@ -90,20 +90,19 @@ class CarriedGroup(Weave):
         super().__init__(len(layers))
         self.form = form
         self.walks = layers
-        self.crowd = crowd.layers
-        self.start = () if first == NOWHERE or crowd.base is None else (first, (0,))
+        self.crowd = _alike_where_unasked(form, layers, crowd)
+        self.start = () if first == NOWHERE or crowd.base is None else (first, self.crowd.first_spread())
 
     def keys_behind(self, place, key):
         """Return whether a question is asked, and the key of the next place for each of its answers."""
-        if place == len(self.crowd):
+        if place == len(self.form):
             return False, []
-        node, nodes = key
+        node, spread = key
         asked, leads = self.walks[place][node]
         if not asked:
             # Persons have answers here, too, but it does not matter which ones.
-            onward = sorted(set([lead for at in nodes for lead, _, _ in self.crowd[place][at]]))
-            return False, [(leads[0], tuple(onward))]
-        told = leads_from(self.crowd[place], nodes)
+            return False, [(leads[0], self.crowd.spread_passed(place, spread))]
+        told = self.crowd.spreads_behind(place, spread)
         answers = answers_of(self.form.questions[place][1])
         return True, [
             (lead, told[answer]) if lead != NOWHERE and answer in told else ()
@@ -111,19 +110,31 @@ class CarriedGroup(Weave):
         ]
 
 
+def _alike_where_unasked(form, layers, crowd):
+    """Return a crowd with one and the same answer to each question that is never asked.
+
+    So what hangs together with such a question by its answers alone does not make more keys.
+    """
+    for place, (_, kind, _) in enumerate(form.questions):
+        if place in crowd.ranks and not any([asked for asked, _ in layers[place]]):
+            answers = answers_of(kind)
+            crowd = crowd.turned_at(place, {answer: answers[:1] for answer in answers})
+    return crowd
+
+
 def _least_toll(form, crowd):
     """Return what the one of a crowd pays who pays least of those with lawful records; None if there is nobody."""
     layers, first = _lawful_layers(form)
-    paid = {} if first == NOWHERE or crowd.base is None else {(first, 0): crowd.base}
+    paid = {} if first == NOWHERE or crowd.base is None else {(first, crowd.outset): crowd.base}
     for place, (_, kind, _) in enumerate(form.questions):
         low = answers_of(kind)[0]
         onward = {}
-        for (node, at), total in paid.items():
+        for (node, spot), total in paid.items():
             asked, leads = layers[place][node]
-            for lead, toll, answers in crowd.layers[place][at]:
+            for further, toll, answers in crowd.ways_behind(place, spot):
                 onto = leads if not asked or len(leads) == 1 else [leads[answer - low] for answer in answers]
                 for number in sorted(set(onto)):
-                    pair = (number, lead)
+                    pair = (number, further)
                     if number != NOWHERE:
                         onward[pair] = min(total + toll, onward.get(pair, total + toll))
         paid = onward

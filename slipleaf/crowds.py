@@ -1,115 +1,150 @@
 """Crowds: sets of persons of a form, told without listing them, and what they become by steps.
 
-A crowd has a layer of nodes for each place; the answers of a person lead from the first node of the
-first layer through one node of each layer to the end. A node is a tuple of triples
-`(lead, toll, answers)`: with each of these answers persons go on to the node `lead` of the next
-layer (0 at the end), and pay a toll, from 0 on. An answer may lead to several nodes. From each node
-on there is somebody who pays nothing: what all pay who come there is paid ahead of it.
+A crowd has strands (slipleaf/strands.py) that have nothing to do with one another; the question of
+each place is in just one of them. A spot tells how far somebody came: for each strand of several
+questions the node to which the answers so far lead. A spread tells for each of them the tuple of
+all such nodes, ascending.
 """
 
 from slipleaf.kinds import answers_of, size_of
+from slipleaf.strands import (
+    cut_at, divided_layer, leads_from, merged_layers, ordered_layers, paired_layers, tidied, turned_layer, without_layer,
+)
 from slipleaf.turns import answers_behind
 
 
 class Crowd:
-    """A set of persons; base: what the one pays who pays least, or None if there is nobody.
+    """A set of persons.
 
-    layers: those told above, but nodes may be alike, lead to nobody, and let everybody pay; the
-    nodes of the last one lead to ends, each of which has a toll.
+    base: what the one pays who pays least, or None if there is nobody; strands: a list of pairs of
+    the ascending places of the questions of a strand, and its layers.
     """
 
-    def __init__(self, layers, ends):
-        told = []
-        # For each node behind: its number there, and what all pay who come there; None if that is nobody.
-        fates = [(0, toll) for toll in ends]
-        for layer in layers[::-1]:
-            numbers = {}
-            found = []
-            for raw in layer:
-                node, least = _tidied(raw, fates)
-                found.append((numbers.setdefault(node, len(numbers)), least) if node else None)
-            told.append(list(numbers))
-            fates = found
-        self.layers = told[::-1]
-        self.base = None if fates[0] is None else fates[0][1]
+    def __init__(self, base, strands):
+        self.base = base
+        self.strands = strands
+        # For each place the number of its strand, and its number in it.
+        self.homes = {
+            place: (number, at) for number, (places, _) in enumerate(strands) for at, place in enumerate(places)
+        }
+        # For each place in a strand of several questions, which of such strands it is.
+        several = [places for places, _ in strands if len(places) > 1]
+        self.ranks = {place: rank for rank, places in enumerate(several) for place in places}
+        self.outset = (0,) * len(several)
 
     def without(self, place):
         """Return the crowd in which the question at a place is left out."""
-        ahead, layer, behind = self.layers[:place], self.layers[place], self.layers[place + 1:]
-        if not behind:
-            # At each node of the last layer there is an answer for which nothing is paid.
-            return Crowd(ahead, [self.base] * len(layer))
-        passed = [
-            [(lead, toll + more, answers) for at, toll, _ in node for lead, more, answers in behind[0][at]]
-            for node in layer
-        ]
-        return Crowd(ahead + [passed] + behind[1:], [self.base])
+        number, at = self.homes[place]
+        places, layers = self.strands[number]
+        own = [other - 1 if other > place else other for other in places if other != place]
+        if at == len(layers) - 1:
+            return self._exchanged([number], (place, -1), own, layers[:at], len(layers[at]))
+        return self._exchanged([number], (place, -1), own, without_layer(layers, at), 1)
 
     def with_any(self, place, answers):
         """Return the crowd in which one more question, ahead of that at a place, has any of these answers."""
-        many = len(self.layers[place]) if place < len(self.layers) else 1
-        free = [((at, 0, answers),) for at in range(many)]
-        return Crowd(self.layers[:place] + [free] + self.layers[place:], [self.base])
+        return self._exchanged([], (place - 1, 1), [place], [[[(0, 0, answers)]]], 1)
 
     def turned_at(self, place, becoming):
         """Return the crowd in which answers at a place become those that a dict has for them."""
-        layer = [
-            [(lead, toll, [new for old in answers for new in becoming.get(old, ())]) for lead, toll, answers in node]
-            for node in self.layers[place]
-        ]
-        return Crowd(self.layers[:place] + [layer] + self.layers[place + 1:], [self.base])
+        number, at = self.homes[place]
+        places, layers = self.strands[number]
+        return self._exchanged([number], (place, 0), list(places), turned_layer(layers, at, becoming), 1)
 
     def paired(self, place, many):
         """Return the crowd in which two questions become one; the second one has so many answers."""
-        layer = [
-            [
-                (lead, toll + more, [answer * many + other for answer in answers for other in others])
-                for at, toll, answers in node for lead, more, others in self.layers[place + 1][at]
-            ]
-            for node in self.layers[place]
-        ]
-        return Crowd(self.layers[:place] + [layer] + self.layers[place + 2:], [self.base])
+        numbers = sorted(set([self.homes[place][0], self.homes[place + 1][0]]))
+        places, layers = self.strands[numbers[0]]
+        if len(numbers) > 1:
+            layers = merged_layers(self.strands[numbers[0]], self.strands[numbers[1]])
+            places = tuple(sorted(places + self.strands[numbers[1]][0]))
+        own = [other - 1 if other > place else other for other in places if other != place + 1]
+        return self._exchanged(numbers, (place, -1), own, paired_layers(layers, places.index(place), many), 1)
 
     def divided(self, place, many):
         """Return the crowd in which a question becomes two; the second one has so many answers."""
-        upper, lower = [], []
-        for node in self.layers[place]:
-            quotients = sorted(set([answer // many for _, _, answers in node for answer in answers]))
-            upper.append([(len(lower) + at, 0, (quotient,)) for at, quotient in enumerate(quotients)])
-            for quotient in quotients:
-                lower.append([
-                    (lead, toll, [answer % many for answer in answers if answer // many == quotient])
-                    for lead, toll, answers in node
-                ])
-        return Crowd(self.layers[:place] + [upper, lower] + self.layers[place + 1:], [self.base])
+        number, at = self.homes[place]
+        places, layers = self.strands[number]
+        own = [other + 1 if other > place else other for other in places]
+        return self._exchanged([number], (place, 1), sorted(own + [place + 1]), divided_layer(layers, at, many), 1)
 
     def moved(self, order):
         """Return the crowd with its questions in another order, a list of their places."""
-        layers = list(self.layers)
-        places = list(range(len(order)))
-        for target, place in enumerate(order):
-            at = places.index(place)
-            places.insert(target, places.pop(at))
-            for upper in range(at - 1, target - 1, -1):
-                width = len(layers[upper + 2]) if upper + 2 < len(layers) else 1
-                layers[upper], layers[upper + 1] = _exchanged_layers(layers[upper], layers[upper + 1], width)
-        return Crowd(layers, [self.base])
+        onward = {place: at for at, place in enumerate(order)}
+        strands = []
+        for places, layers in self.strands:
+            turned = sorted([(onward[place], at) for at, place in enumerate(places)])
+            strands.extend(_cut([place for place, _ in turned], ordered_layers(layers, [at for _, at in turned])))
+        return Crowd(self.base, strands)
+
+    def _exchanged(self, gone, shift, own, layers, many):
+        """Return the crowd with a strand of these places, layers and so many ends instead of some others.
+
+        shift: a place, and by how much all places behind it change in the strands that stay.
+        """
+        layers, least = tidied(layers, many)
+        if least is None:
+            return Crowd(None, [])
+        after, by = shift
+        strands = [
+            (tuple([place + by if place > after else place for place in places]), kept)
+            for number, (places, kept) in enumerate(self.strands) if number not in gone
+        ]
+        return Crowd(self.base + least, strands + _cut(own, layers))
+
+    def first_spread(self):
+        """Return the spread of all ahead of the first question."""
+        return ((0,),) * len(self.outset)
+
+    def spreads_behind(self, place, spread):
+        """Return a dict from each answer that is given at a place to the spread behind it."""
+        told = leads_from(self._layer_at(place), self._nodes_in(place, spread))
+        return {answer: self._with_rank(place, spread, nodes) for answer, nodes in told.items()}
+
+    def spread_passed(self, place, spread):
+        """Return the spread behind a place, whatever the answer is."""
+        layer = self._layer_at(place)
+        onward = sorted(set([lead for at in self._nodes_in(place, spread) for lead, _, _ in layer[at]]))
+        return self._with_rank(place, spread, tuple(onward))
+
+    def ways_behind(self, place, spot):
+        """Return the list of triples of the spot behind a place, a toll, and the answers that lead there."""
+        node = self._layer_at(place)[spot[self.ranks[place]] if place in self.ranks else 0]
+        return [(self._with_rank(place, spot, lead), toll, answers) for lead, toll, answers in node]
 
     def persons(self):
         """Return the list of all persons, ascending, as tuples are compared."""
-        found = [] if self.base is None else [((), (0,))]
-        for layer in self.layers:
+        found = [] if self.base is None else [((), self.first_spread())]
+        for place in range(len(self.homes)):
             onward = []
-            for person, nodes in found:
-                leads = leads_from(layer, nodes)
-                onward.extend([(person + (answer,), leads[answer]) for answer in sorted(leads)])
+            for person, spread in found:
+                told = self.spreads_behind(place, spread)
+                onward.extend([(person + (answer,), told[answer]) for answer in sorted(told)])
             found = onward
         return [person for person, _ in found]
 
+    def _layer_at(self, place):
+        """Return the layer of the question at a place."""
+        number, at = self.homes[place]
+        return self.strands[number][1][at]
+
+    def _nodes_in(self, place, spread):
+        """Return the nodes of the layer at a place that a spread has."""
+        return spread[self.ranks[place]] if place in self.ranks else (0,)
+
+    def _with_rank(self, place, told, new):
+        """Return a spot or a spread with something else for the strand of a place."""
+        if place not in self.ranks:
+            return told
+        rank = self.ranks[place]
+        return told[:rank] + (new,) + told[rank + 1:]
+
 
 def crowd_of(told):
-    """Return a crowd; told: for each place a list of pairs of a toll and answers."""
-    return Crowd([[[(0, toll, answers) for toll, answers in pairs]] for pairs in told], [0])
+    """Return a crowd; told: for each place a list of pairs of a toll and answers, the first toll 0."""
+    return Crowd(0, [
+        ((place,), [[tuple([(0, toll, answers) for toll, answers in pairs])]]) for place, pairs in enumerate(told)
+    ])
 
 
 def crowd_behind(crowd, form, step):
@@ -131,55 +166,11 @@ def crowd_behind(crowd, form, step):
     return crowd.turned_at(place, answers_behind(form.questions[place][1], step))
 
 
-def leads_from(layer, nodes):
-    """Return a dict from each answer that is given at some nodes to the tuple of the nodes to which it leads."""
-    told = {}
-    for at in nodes:
-        for lead, _, answers in layer[at]:
-            for answer in answers:
-                told.setdefault(answer, []).append(lead)
-    return {answer: tuple(sorted(set(leads))) for answer, leads in told.items()}
-
-
-def _tidied(raw, fates):
-    """Return the node that raw triples make, and what all pay who come to it; an empty tuple if that is nobody."""
-    tolls = {}
-    for lead, toll, answers in raw:
-        if fates[lead] is not None:
-            number, more = fates[lead]
-            for answer in answers:
-                key = (number, answer)
-                tolls[key] = min(toll + more, tolls.get(key, toll + more))
-    if not tolls:
-        return (), 0
-    least = min(list(tolls.values()))
-    groups = {}
-    for number, answer in sorted(tolls):
-        groups.setdefault((number, tolls[(number, answer)] - least), []).append(answer)
-    return tuple([(number, toll, tuple(groups[(number, toll)])) for number, toll in sorted(groups)]), least
-
-
-def _exchanged_layers(upper, lower, width):
-    """Return two layers for the questions of two layers the other way round; width: how many nodes are behind."""
-    if len(lower) == 1 and width == 1:
-        # The two questions have nothing to do with one another.
-        return [tuple([(at, toll, told) for _, toll, told in lower[0]]) for at in range(len(upper))], upper
-    ends = [(at, 0) for at in range(width)]
-    numbers = {}
-    above = []
-    for node in upper:
-        ways = [(lead, toll + more, answers, others) for at, toll, answers in node for lead, more, others in lower[at]]
-        # For each answer of the lower question the ways that have it.
-        open_to = {}
-        for number, way in enumerate(ways):
-            for other in way[3]:
-                open_to.setdefault(other, []).append(number)
-        alike = {}
-        for other in sorted(open_to):
-            alike.setdefault(tuple(open_to[other]), []).append(other)
-        raw = []
-        for taken, others in alike.items():
-            below, least = _tidied([ways[number][:3] for number in taken], ends)
-            raw.append((numbers.setdefault(below, len(numbers)), least, others))
-        above.append(_tidied(raw, [(at, 0) for at in range(len(numbers))])[0])
-    return above, list(numbers)
+def _cut(places, layers):
+    """Return the strands into which one of these places can be cut."""
+    strands = []
+    start = 0
+    for length in cut_at(layers):
+        strands.append((tuple(places[start:start + length]), layers[start:start + length]))
+        start = start + length
+    return strands

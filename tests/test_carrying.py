@@ -385,6 +385,28 @@ class Large(LeafCase):
         paired = edition + Edition(edition.new, [("pair", "x" + first, second, "y" + first) for first, second in zip(NAMES[:17:2], NAMES[1:18:2])])
         self.assertEqual(self.timed(carried, paired, (1,) * 18).many(), 3 ** 18)
 
+    def test_answers_that_hang_together_far_apart(self):
+        form = Form([ask(name, ("pick", 2)) for name in NAMES[:20]])
+        steps = [("split", name, 1, 3) for name in NAMES[:20]]
+        steps += [("divide", name, name, "x" + name, 2) for name in NAMES[:20]]
+        steps.append(("move", tuple(NAMES[:20]) + tuple("x" + name for name in NAMES[:20])))
+        edition = self.timed(Edition, form, steps)
+        # In the middle there are 2 ** 20 rests.
+        with self.assertRaises(TooMany):
+            self.timed(carried, edition, (1,) * 20)
+        self.assertEqual(list(self.timed(carried, edition, (0,) * 20).records()), [(0,) * 40])
+        some = self.timed(carried, edition, (1,) * 3 + (0,) * 17)
+        self.assertEqual((some.many(), some.rests(20)), (27, 8))
+        # Where one of each two is never asked, all goes together with all.
+        less = edition + Edition(edition.new, [("need", "x" + name, ("not", ALWAYS)) for name in NAMES[:20]])
+        group = self.timed(carried, less, (1,) * 20)
+        self.assertEqual((group.many(), group.size), (2 ** 20, 41))
+        twelve = Edition(Form(form.flat[:12]), [step for step in steps[:-1] if step[1] in NAMES[:12]])
+        apart = twelve.then(("move", tuple(NAMES[:12]) + tuple("x" + name for name in NAMES[:12])))
+        self.assertEqual(self.timed(fewest_forgotten, apart, (1,) * 12), ())
+        none = ("not", ("or", ("is", NAMES[3], (1,)), ("is", "x" + NAMES[3], (1,))))
+        self.assertEqual(self.timed(fewest_forgotten, apart.then(("check", "c", none)), (1,) * 12), (NAMES[3],))
+
     def test_record_of_is_carried_by_the_person(self):
         form = read_form("ask a pick 2\nask b pick 2 when is a 1")
         self.assertEqual(record_of(form, (0, 1)), (0, None))
