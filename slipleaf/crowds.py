@@ -8,7 +8,8 @@ all such nodes, ascending.
 
 from slipleaf.kinds import answers_of, size_of
 from slipleaf.strands import (
-    cut_at, divided_layer, leads_from, merged_layers, ordered_layers, paired_layers, tidied, turned_layer, without_layer,
+    cut_at, divided_layer, leads_from, merged_layers, ordered_layers, paired_layers, tidied, turned_layer,
+    without_layer,
 )
 from slipleaf.turns import answers_behind
 
