@@ -5,8 +5,7 @@ The function lawful_records is for the other files.
 
 from slipleaf.arrows import due_rows
 from slipleaf.errors import TooMany
-from slipleaf.flows import flow_of
-from slipleaf.nodes import first_records, merged
+from slipleaf.nodes import first_records, layers_of_lawful
 from slipleaf.rivals import Duels, Purses
 from slipleaf.slips import SlipCounter
 
@@ -36,8 +35,8 @@ def unseen(issue):
 
 def lawful_records(form):
     """Return the list of all lawful records, in order."""
-    layers, firsts = merged([flow_of(form.questions, form.checks)])
-    records = first_records(form.questions, layers, firsts[0], MOST_RECORDS + 1)
+    layers, first = layers_of_lawful(form)
+    records = first_records(form.questions, layers, first, MOST_RECORDS + 1)
     if len(records) > MOST_RECORDS:
         raise TooMany("record")
     return records

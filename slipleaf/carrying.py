@@ -2,10 +2,9 @@
 
 from slipleaf.crowds import crowd_behind, crowd_of
 from slipleaf.errors import BadRecord, NoRecord, TooMany
-from slipleaf.flows import flow_of
 from slipleaf.groups import Group
 from slipleaf.kinds import answers_of
-from slipleaf.nodes import NOWHERE, evened, merged, numbered
+from slipleaf.nodes import NOWHERE, evened, layers_of_lawful, numbered
 from slipleaf.records import is_record
 from slipleaf.weaves import Weave
 
@@ -72,12 +71,6 @@ def _crowd_by(edition, told):
     return crowd
 
 
-def _lawful_layers(form):
-    """Return the layers and the first node of the lawful records of a form."""
-    layers, firsts = merged([flow_of(form.questions, form.checks)])
-    return layers, firsts[0]
-
-
 class CarriedGroup(Weave):
     """Makes the group of the lawful records of the persons of a crowd.
 
@@ -86,7 +79,7 @@ class CarriedGroup(Weave):
     """
 
     def __init__(self, form, crowd):
-        layers, first = _lawful_layers(form)
+        layers, first = layers_of_lawful(form)
         super().__init__(len(layers))
         self.form = form
         self.walks = layers
@@ -124,7 +117,7 @@ def _alike_where_unasked(form, layers, crowd):
 
 def _least_toll(form, crowd):
     """Return what the one of a crowd pays who pays least of those with lawful records; None if there is nobody."""
-    layers, first = _lawful_layers(form)
+    layers, first = layers_of_lawful(form)
     paid = {} if first == NOWHERE or crowd.base is None else {(first, crowd.outset): crowd.base}
     for place, (_, kind, _) in enumerate(form.questions):
         low = answers_of(kind)[0]

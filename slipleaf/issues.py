@@ -4,10 +4,9 @@ from slipleaf.arrows import due_rows, least_booklet
 from slipleaf.booklets import MOST_ROWS
 from slipleaf.bounds import is_within
 from slipleaf.errors import BadNumber, BadPages, BadRow, BadSheet, Misled
-from slipleaf.flows import flow_of
 from slipleaf.judging import fault
 from slipleaf.kinds import EMPTY, is_content
-from slipleaf.nodes import merged
+from slipleaf.nodes import layers_of_lawful
 
 
 class Issue:
@@ -49,7 +48,7 @@ class Issue:
     def lawful_layers(self):
         """The layers of the nodes of the lawful records (slipleaf/nodes.py), and the first node."""
         if self._lawful_kept is None:
-            self._lawful_kept = _lawful_layers_of(self.form)
+            self._lawful_kept = layers_of_lawful(self.form)
         return self._lawful_kept
 
     def rows_on(self, page):
@@ -79,9 +78,3 @@ class Issue:
 
     def __eq__(self, other):
         return isinstance(other, Issue) and self.booklet == other.booklet and self.pages == other.pages
-
-
-def _lawful_layers_of(form):
-    """Return the layers and the first node of the lawful records of a form."""
-    layers, firsts = merged([flow_of(form.questions, form.checks)])
-    return layers, firsts[0]

@@ -10,7 +10,7 @@ The functions here change nothing but what they made, because operators of group
 """
 
 from slipleaf.errors import TooMany
-from slipleaf.flows import END
+from slipleaf.flows import END, flow_of
 from slipleaf.kinds import answers_of
 
 NOWHERE = -1
@@ -41,6 +41,12 @@ def merged(flows):
             below[at] = fates + [NOWHERE]
         layers.append(list(numbers))
     return layers[::-1], [fates[0] for fates in below]
+
+
+def layers_of_lawful(form):
+    """Return the layers of the nodes of all lawful records of a form, and the first node."""
+    layers, firsts = merged([flow_of(form.questions, form.checks)])
+    return layers, firsts[0]
 
 
 def packed(asked, leads):
