@@ -19,7 +19,8 @@ class Outlook:
         spots = [(first, 1) + tuple([first_node(nodes) for nodes in self.groups])]
         # The keys are the choices.
         self.choices = {}
-        # For each place, how many spots the next one has, and for each spot the pairs of a choice and the next spot.
+        # How many spots the next place has, and for each spot the pairs of a choice and the next spot; for each place
+        # at which not all walks go on alike, because what all pay makes no difference.
         self.ways = []
         for place, layer in enumerate(layers[:-1]):
             numbers = {}
@@ -30,7 +31,8 @@ class Outlook:
                     (self.choices.setdefault(choice, len(self.choices)), numbers.setdefault(further, len(numbers)))
                     for further, choice in onward.items()
                 ])
-            self.ways.append((len(numbers), told))
+            if not _are_alike(told):
+                self.ways.append((len(numbers), told))
             spots = list(numbers)
         # For each spot of the end, for each group whether the records are in it.
         self.ends = [tuple([int(node != NOWHERE) for node in spot[2:]]) for spot in spots]
@@ -69,6 +71,11 @@ class Outlook:
             if further[0] != NOWHERE:
                 picks.setdefault(further, []).append(number)
         return {further: (spot[1], tuple(numbers) if size > 1 else ()) for further, numbers in picks.items()}
+
+
+def _are_alike(told):
+    """Tell whether walks go on from all spots with one choice, each to the spot of its own number."""
+    return told == [[(told[0][0][0], number)] for number in range(len(told))]
 
 
 def _leads_of(layer, node):
