@@ -4,9 +4,8 @@ The functions check_counted and ends_by_house are for the other files.
 """
 
 from slipleaf.books import is_struck_by, papers_by
-from slipleaf.bounds import is_within
 from slipleaf.cases import prices_of
-from slipleaf.entries import MOST_HOUSE
+from slipleaf.entries import is_house
 from slipleaf.errors import BadNumber, TooMany, Unlike
 from slipleaf.outlooks import Outlook
 from slipleaf.readings import check_extra
@@ -24,7 +23,7 @@ def counting(book):
 
 def open_group(book, house, *, extra=0):
     """Return the group of the records that a house may have, with so many slips more than the fewest."""
-    if not is_within(house, 1, MOST_HOUSE) or house not in counting(book):
+    if not is_house(house) or house not in book.houses() or book.is_struck(house):
         raise BadNumber(house)
     return book.case_of(house).group(extra)
 

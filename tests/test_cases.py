@@ -114,6 +114,26 @@ class ByTheWords(LeafCase):
             sure += bool(case)
         self.assertGreater(sure, 30)
 
+    def test_larger_forms(self):
+        for rng in seeded(60):
+            try:
+                form = random_form(rng, rng.randint(6, 9))
+            except TooMany:
+                continue
+            lawful = Group.lawful(form)
+            if not lawful:
+                continue
+            issue = random_issue(rng, form) if rng.random() < 0.6 else Issue.made(form, rng.randint(1, 4))
+            papers = [made_paper(issue, random_told(rng, issue, lawful.nth(rng.randrange(lawful.many())))) for _ in range(4)]
+            case, extra = Case(issue, papers), rng.choice((0, 1, 2, 4))
+            group = case.group(extra)
+            self.assertEqual(case.slips_of(case.group().first()), case.least())
+            for some, inside in ((group, True), (lawful - group, False)):
+                for number in sorted({rng.randrange(some.many()) for _ in range(15)} if some else ()):
+                    self.assertIs(case.slips_of(some.nth(number)) <= case.least() + extra, inside)
+            self.assertEqual(case.first_within(extra, 5), [group.nth(number) for number in range(min(5, group.many()))])
+            self.assertIs(bool(case), case.group().many() == 1)
+
     def test_one_sheet_is_a_reading(self):
         for rng in seeded(60):
             form = random_form(rng)

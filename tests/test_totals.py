@@ -114,6 +114,38 @@ class ByTheWords(LeafCase):
         self.assertEqual(list(open_group(Book(ISSUE, told), 3).records()), [(1, 2)])
 
 
+class ByGroups(LeafCase):
+    def test_larger_forms(self):
+        """What is told without listing records agrees with the open groups, joined with the groups."""
+        between = 0
+        for rng in seeded(120):
+            try:
+                form = random_form(rng, rng.randint(6, 9))
+                groups = [Group.of(form, random_condition(rng, kinds_in(form), 1)) for _ in range(2)]
+            except TooMany:
+                continue
+            if not Group.lawful(form):
+                continue
+            issue = random_issue(rng, form) if rng.random() < 0.6 else Issue.made(form, rng.randint(1, 4))
+            book = Book(issue, random_entries(rng, issue, 25, (1, 2, 3, 4, 5)))
+            extra = rng.choice((0, 1, 2))
+            opened = [open_group(book, house, extra=extra) for house in counting(book)]
+            for group in groups:
+                low = sum(not (some - group) for some in opened)
+                high = sum(bool(some & group) for some in opened)
+                self.assertEqual(bounds(book, group, extra=extra), (low, high))
+                between += low < high
+            told = {(0, 0)}
+            for some in opened:
+                ways = [
+                    (one, other) for one in (0, 1) for other in (0, 1)
+                    if some & (groups[0] if one else ~groups[0]) & (groups[1] if other else ~groups[1])
+                ]
+                told = {(first + one, second + other) for first, second in told for one, other in ways}
+            self.assertEqual(points(book, groups, extra=extra), tuple(sorted(told)))
+        self.assertGreater(between, 25)
+
+
 class Errors(LeafCase):
     BOOK = Book(ISSUE, [entry(1, 3, "note", "own", 1), entry(2, 4, "strike")])
     OTHER = Group.every(read_form("ask own pick 2"))
