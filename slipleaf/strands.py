@@ -6,8 +6,8 @@ of the first layer through one node of each layer to the end. A node is a tuple 
 (0 at the end), and pays a toll, from 0 on. An answer may lead to several nodes. From each node on
 somebody pays nothing: what all pay who come there is paid ahead of it.
 
-All functions but the first return layers that need not be as told here: their nodes may be alike,
-lead to nobody, and let everybody pay.
+The functions that change layers return some that need not be as told here: their nodes may be alike,
+lead to nobody, and let everybody pay. The function tidied makes a strand of these.
 """
 
 
