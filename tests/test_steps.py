@@ -307,7 +307,7 @@ class Errors(LeafCase):
 
 class TooMuch(LeafCase):
     def test_120_words(self):
-        # 38 times `is a 1` with `or` and brackets: each of the 40 plain words grows by one box.
+        # 19 times `is a 1`, each of which grows by one word when its answer is split in two.
         def form_with(extra):
             is_one = ("is", "a", (1,))
             level = ("or",) + (is_one,) * 6
