@@ -3,7 +3,7 @@
 import unittest
 
 from slipleaf.errors import BadAnswer, BadContent, BadKind
-from slipleaf.kinds import answers_of, is_answer, is_content, is_kind, size_of, slips_between, ticked
+from slipleaf.kinds import all_slips, answers_of, is_answer, is_content, is_kind, size_of, slips_between, ticked
 from tests.helper import ODD_THINGS, LeafCase, deep
 
 KINDS = (
@@ -168,6 +168,16 @@ class Ticked(LeafCase):
             self.assert_error(BadContent(), ticked, ("tick", 3), content)
         for content in (-3, 3, True, False, None, [1], "a"):
             self.assert_error(BadContent(), ticked, ("pick", 3), content)
+
+
+
+class AllSlips(LeafCase):
+    def test_they_are_those_of_each_answer(self):
+        for kind in KINDS:
+            for content in range(-2, 100):
+                if is_content(kind, content):
+                    wanted = tuple(slips_between(kind, answer, content) for answer in answers_of(kind))
+                    self.assertEqual(all_slips(kind, content), wanted)
 
 
 if __name__ == "__main__":
