@@ -122,7 +122,7 @@ def _least_toll(form, crowd):
     for place, (_, kind, _) in enumerate(form.questions):
         low = answers_of(kind)[0]
         onward = {}
-        for (node, spot), total in paid.items():
+        for (node, spot), total in list(paid.items()):
             asked, leads = layers[place][node]
             for further, toll, answers in crowd.ways_behind(place, spot):
                 onto = leads if not asked or len(leads) == 1 else [leads[answer - low] for answer in answers]

@@ -32,7 +32,7 @@ def _parting_in_asking(form, layers, pair):
     best = None
     for place, question in enumerate(form.questions):
         onward = {}
-        for (one, other), given in reached.items():
+        for (one, other), given in list(reached.items()):
             node, beside = layers[place][one], layers[place][other]
             if node[0] == beside[0]:
                 for ahead, more in _apart_ahead(node, beside, answers_of(question[1])):

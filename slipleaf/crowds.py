@@ -117,11 +117,11 @@ class Crowd:
         """Return the list of all persons, ascending, as tuples are compared."""
         found = [] if self.base is None else [((), self.first_spread())]
         for place in range(len(self.homes)):
-            onward = []
-            for person, spread in found:
-                told = self.spreads_behind(place, spread)
-                onward.extend([(person + (answer,), told[answer]) for answer in sorted(told)])
-            found = onward
+            found = [
+                (person + (answer,), further)
+                for person, spread in found
+                for answer, further in sorted(self.spreads_behind(place, spread).items())
+            ]
         return [person for person, _ in found]
 
     def _layer_at(self, place):

@@ -43,7 +43,7 @@ class Outlook:
         told = [_price_of(prices, row, picks) for row, picks in self.choices]
         for many, ways in self.ways:
             onward = [None] * many
-            for cost, pairs in zip(costs, ways):
+            for cost, pairs in zip(list(costs), ways):
                 for choice, further in pairs:
                     total = cost + told[choice]
                     if onward[further] is None or total < onward[further]:
